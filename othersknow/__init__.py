@@ -1,0 +1,1 @@
+"""Othersknow: machines that stand in for one another."""

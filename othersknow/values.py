@@ -1,0 +1,34 @@
+"""What all files ask of the values that they are passed."""
+
+MOST_COUNT = 10 ** 30
+
+
+def is_number(value):
+    """Whether any value is a number."""
+    # Python counts True and False as integers, the package does not.
+    return isinstance(value, int) and not isinstance(value, bool)
+
+
+def is_index(value, size):
+    """Whether any value is a number from 0 to size - 1."""
+    return is_number(value) and 0 <= value < size
+
+
+def is_count(value):
+    """Whether any value is a number from 0 to 10 ** 30."""
+    return is_index(value, MOST_COUNT + 1)
+
+
+def is_list(value):
+    """Whether any value may stand where a list is documented."""
+    return isinstance(value, (list, tuple))
+
+
+def copied(value):
+    """The same value, with new lists at every depth."""
+    if isinstance(value, list):
+        return [copied(item) for item in value]
+    if isinstance(value, tuple):
+        # A tuple itself never changes, but lists within it do.
+        return tuple([copied(item) for item in value])
+    return value

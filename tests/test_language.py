@@ -1,0 +1,118 @@
+"""The rules of the language that can be seen in the text of a file, by their numbers."""
+
+import ast
+import builtins
+import re
+import unittest
+from pathlib import Path
+
+PACKAGE = Path(__file__).resolve().parent.parent / "othersknow"
+FILES = sorted(PACKAGE.rglob("*.py"))
+
+BUILTINS = set("""len range enumerate zip min max sum abs sorted reversed int str bool bytes list tuple dict set frozenset
+    isinstance ord repr any all divmod iter next super property classmethod staticmethod object float Exception ValueError
+    TypeError KeyError IndexError LookupError ZeroDivisionError ArithmeticError OverflowError RuntimeError
+    NotImplementedError AttributeError StopIteration NotImplemented""".split())
+BARRED_WORDS = set("""type typing typing_extensions enum Enum IntEnum StrEnum Flag IntFlag Generic Protocol ABC ABCMeta
+    namedtuple NamedTuple TypedDict TYPE_CHECKING abstractmethod""".split())
+BARRED_NAMES = set("""register mro elements open input law version_info with_traceback add_note attrgetter breakpoint
+    compile copyright credits delattr dir eval exec exit gc getattr globals hasattr help id importlib license locals
+    methodcaller os quit setattr type vars sys""".split())
+WHOLE = ("any", "all", "min", "max", "sum", "sorted")
+
+
+def tree(path):
+    return ast.parse(path.read_text(encoding="utf-8"))
+
+
+def nodes(path, *kinds):
+    return [node for node in ast.walk(tree(path)) if isinstance(node, kinds)]
+
+
+def names(path):
+    """All names that a file binds or passes."""
+    for node in nodes(path, ast.AST):
+        for field in ("name", "arg", "attr", "asname"):
+            if isinstance(getattr(node, field, None), str):
+                yield getattr(node, field)
+        if isinstance(node, ast.Name):
+            yield node.id
+
+
+def is_property(node):
+    """Whether a function in a class is a property or a setter."""
+    return any(isinstance(over, ast.Attribute) or over.id == "property" for over in node.decorator_list)
+
+
+class Language(unittest.TestCase):
+    def test_l1_l14_files(self):
+        self.assertGreater(len(FILES), 1)
+        found = [path for path in PACKAGE.rglob("*") if path.is_file() and "__pycache__" not in path.parts]
+        self.assertEqual(sorted(found), FILES)
+        for path in FILES:
+            with self.subTest(path.name):
+                self.assertRegex(path.name, r"^[a-z0-9_]+\.py$")
+                self.assertTrue((path.parent / "__init__.py").exists())
+                self.assertRegex(path.read_bytes(), rb"\A[ -~\n]*\Z")
+
+    def test_l2_l16_imports(self):
+        for path in FILES:
+            with self.subTest(path.name):
+                self.assertEqual(nodes(path, ast.Import), [])
+                for node in nodes(path, ast.ImportFrom):
+                    self.assertEqual((node.level, node.module.split(".")[0]), (0, "othersknow"))
+                    self.assertNotIn("*", [alias.name for alias in node.names])
+
+    def test_l10_sizes(self):
+        for path in FILES:
+            with self.subTest(path.name):
+                lines = path.read_text().split("\n")
+                self.assertLess(len(lines), 401)
+                self.assertLessEqual(max(len(line) for line in lines), 120)
+                for node in nodes(path, ast.FunctionDef):
+                    self.assertLessEqual(node.end_lineno - node.lineno + 1, 40, node.name)
+
+    def test_l17_words(self):
+        for path in FILES:
+            with self.subTest(path.name):
+                text = path.read_text()
+                self.assertEqual(set(re.findall(r"\w+", text)) & BARRED_WORDS, set())
+                self.assertNotRegex(text, "dataclass|overload|contextmanager")
+                self.assertEqual(set(names(path)) & BARRED_NAMES, set())
+
+    def test_l8_l12_names(self):
+        allowed = {"__init__", "__eq__", "__repr__", "__str__", "__len__", "__call__", "__bool__", "__contains__"}
+        for path in FILES:
+            with self.subTest(path.name):
+                self.assertEqual([name for name in names(path) if name.startswith("_") and name not in allowed], [])
+                used = {node.id for node in nodes(path, ast.Name)}
+                self.assertEqual(used & set(dir(builtins)) - BUILTINS, set())
+
+    def test_l6_l7_statements(self):
+        for path in FILES:
+            with self.subTest(path.name):
+                self.assertEqual(nodes(path, ast.Global, ast.AsyncFunctionDef, ast.Await, ast.Div), [])
+                for node in nodes(path, ast.Constant):
+                    self.assertNotIsInstance(node.value, (float, complex))
+                    if isinstance(node.value, str):
+                        self.assertNotIn("%", node.value)
+
+    def test_l7_whole_lists(self):
+        for path in FILES:
+            with self.subTest(path.name):
+                for node in nodes(path, ast.Call):
+                    if isinstance(node.func, ast.Name) and node.func.id in WHOLE:
+                        self.assertEqual([arg for arg in node.args if isinstance(arg, ast.GeneratorExp)], [])
+
+    def test_l18_no_name_is_a_method_and_an_attribute(self):
+        methods = set()
+        attributes = set()
+        for path in FILES:
+            for held in nodes(path, ast.ClassDef):
+                methods |= {node.name for node in held.body if isinstance(node, ast.FunctionDef) and not is_property(node)}
+            attributes |= {node.attr for node in nodes(path, ast.Attribute) if isinstance(node.ctx, ast.Store)}
+        self.assertEqual(methods & attributes, set())
+
+
+if __name__ == "__main__":
+    unittest.main()
