@@ -1,7 +1,7 @@
 """Machines that read the letters of an alphabet."""
 
 from othersknow.errors import InvalidAlphabet, InvalidCount, InvalidMove, InvalidState, InvalidStates, InvalidWord
-from othersknow.values import is_count, is_index, is_list, is_number
+from othersknow.values import climbs, is_count, is_index, is_list, is_number
 
 MOST_LETTERS = 3
 
@@ -10,9 +10,7 @@ def is_alphabet(value):
     """Whether any value is an alphabet."""
     if not isinstance(value, str) or not 1 <= len(value) <= MOST_LETTERS:
         return False
-    # Where each letter is above the one before it, all letters are different.
-    climbs = all([low < high for low, high in zip(value, value[1:])])
-    return climbs and all(["a" <= letter <= "z" for letter in value])
+    return climbs(value) and all(["a" <= letter <= "z" for letter in value])
 
 
 def is_word(value, alphabet):

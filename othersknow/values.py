@@ -24,6 +24,16 @@ def is_list(value):
     return isinstance(value, (list, tuple))
 
 
+def is_pair(value, size):
+    """Whether any value is a pair of numbers from 0 to size - 1."""
+    return isinstance(value, tuple) and len(value) == 2 and all([is_index(item, size) for item in value])
+
+
+def climbs(items):
+    """Whether each item is above the one before it, so that all are different."""
+    return all([low < high for low, high in zip(items, items[1:])])
+
+
 def copied(value):
     """The same value, with new lists at every depth."""
     if isinstance(value, list):

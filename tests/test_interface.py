@@ -2,14 +2,37 @@
 
 import inspect
 import unittest
+from collections import Counter
 
-from othersknow import machines, teams
+from othersknow import machines, partitions, reports, spares, teams, verdicts
 
 # For each name the parameters, as they are written in the document.
 FUNCTIONS = {
     machines.is_alphabet: "(value)",
     machines.alike: "(one, other)",
+    reports.report_of: "(team, number, *, silent=())",
+    reports.fitting: "(team, report, *, wrong=0)",
+    reports.is_safe: "(team, *, silent=0, wrong=0)",
+    reports.need: "(team, *, silent=0, wrong=0)",
+    reports.bearable: "(team)",
+    partitions.is_partition: "(machine, value)",
+    partitions.is_image: "(machine, value)",
+    partitions.finest: "(machine)",
+    partitions.closure: "(machine, blocks)",
+    partitions.joined: "(machine, blocks, one, other)",
+    partitions.met: "(machine, one, other)",
+    partitions.quotient: "(machine, blocks)",
+    partitions.images: "(machine, *, apart=())",
+    partitions.image_count: "(machine, *, apart=())",
+    partitions.is_coarsest: "(machine, blocks, *, apart=())",
+    partitions.coarsest: "(machine, *, apart=())",
+    spares.useful: "(team)",
+    spares.least_spares: "(team, *, silent=0, wrong=0)",
+    spares.are_spares: "(team, value, *, silent=0, wrong=0)",
+    spares.with_spares: "(team, blocks)",
+    verdicts.verdict: "(team, *, silent=0, wrong=0)",
 }
+FILES = {machines: 2, reports: 5, partitions: 11, spares: 4, verdicts: 1}
 CLASSES = {
     machines.Machine: {
         "__init__": "(self, alphabet, moves)",
@@ -41,20 +64,48 @@ CLASSES = {
         "__len__": "(self)",
         "__repr__": "(self)",
     },
+    verdicts.Verdict: {
+        "__init__": "(self, team, silent, wrong)",
+        "told": "(self)",
+        "holds": "(self)",
+        "__bool__": "(self)",
+        "__repr__": "(self)",
+    },
+    verdicts.Safe: {
+        "__init__": "(self, team, silent, wrong, states)",
+        "listed_states": "(self)",
+        "holds": "(self)",
+        "__repr__": "(self)",
+    },
+    verdicts.Unsafe: {
+        "__init__": "(self, team, silent, wrong, one, other, report)",
+        "holds": "(self)",
+        "__repr__": "(self)",
+    },
 }
-PROPERTIES = {machines.Machine: ["alphabet", "states"], teams.Team: ["alphabet", "distance"]}
+PLACES = {machines: ["Machine"], teams: ["Team"], verdicts: ["Verdict", "Safe", "Unsafe"]}
+PROPERTIES = {machines.Machine: ["alphabet", "states"], teams.Team: ["alphabet", "distance"],
+              verdicts.Verdict: ["team", "silent", "wrong"], verdicts.Unsafe: ["one", "other", "report"]}
 VALUES = {machines.Machine: {"STATES": 24}, teams.Team: {"MOST": 6, "JOINT": 24}}
 
 
 class Interface(unittest.TestCase):
     def test_functions(self):
         for function, text in FUNCTIONS.items():
-            self.assertEqual(str(inspect.signature(function)), text)
-        self.assertEqual({function.__module__ for function in FUNCTIONS}, {"othersknow.machines"})
+            with self.subTest(function=function.__name__):
+                self.assertEqual(str(inspect.signature(function)), text)
+
+    def test_functions_stand_in_their_files(self):
+        self.assertEqual(Counter(function.__module__ for function in FUNCTIONS),
+                         {place.__name__: many for place, many in FILES.items()})
 
     def test_classes_stand_in_their_files(self):
-        self.assertEqual(machines.Machine.__module__, "othersknow.machines")
-        self.assertEqual(teams.Team.__module__, "othersknow.teams")
+        for place, names in PLACES.items():
+            for name in names:
+                self.assertEqual(getattr(place, name).__module__, place.__name__)
+
+    def test_images_is_a_generator(self):
+        self.assertTrue(inspect.isgeneratorfunction(partitions.images))
 
     def test_methods_stand_in_their_class_itself(self):
         for held, methods in CLASSES.items():

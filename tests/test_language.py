@@ -44,6 +44,36 @@ def is_property(node):
     return any(isinstance(over, ast.Attribute) or over.id == "property" for over in node.decorator_list)
 
 
+def functions():
+    """All functions and methods of the package, by their names."""
+    found = {}
+    for path in FILES:
+        for node in nodes(path, ast.FunctionDef):
+            found.setdefault(node.name, []).append(node)
+    return found
+
+
+def is_quiet(node):
+    """Whether L5 asks that a function changes nothing: an operator, a property, equality, a text or a length."""
+    over = [ast.unparse(decorator) for decorator in node.decorator_list]
+    return "property" in over or (node.name.startswith("__") and node.name not in ("__init__", "__call__"))
+
+
+def reached(found):
+    """The quiet functions and all functions that they call, where a method may be that of any class."""
+    todo = [node for several in found.values() for node in several if is_quiet(node)]
+    seen = []
+    while todo:
+        node = todo.pop()
+        if node not in seen:
+            seen.append(node)
+            for call in ast.walk(node):
+                if isinstance(call, ast.Call):
+                    name = call.func.id if isinstance(call.func, ast.Name) else call.func.attr
+                    todo.extend(found.get(name, []))
+    return seen
+
+
 class Language(unittest.TestCase):
     def test_l1_l14_files(self):
         self.assertGreater(len(FILES), 1)
@@ -112,6 +142,53 @@ class Language(unittest.TestCase):
                 methods |= {node.name for node in held.body if isinstance(node, ast.FunctionDef) and not is_property(node)}
             attributes |= {node.attr for node in nodes(path, ast.Attribute) if isinstance(node.ctx, ast.Store)}
         self.assertEqual(methods & attributes, set())
+
+    def test_l18_no_attribute_has_the_name_of_a_property(self):
+        properties = {node.name for path in FILES for node in nodes(path, ast.FunctionDef) if node.decorator_list}
+        setters = {over.value.id for path in FILES for node in nodes(path, ast.FunctionDef)
+                   for over in node.decorator_list if isinstance(over, ast.Attribute)}
+        attributes = {node.attr for path in FILES for node in nodes(path, ast.Attribute) if isinstance(node.ctx, ast.Store)}
+        self.assertEqual(properties & attributes - setters, set())
+
+    def test_l5_operators_and_properties_change_nothing(self):
+        changing = {"append", "extend", "pop", "insert", "remove", "clear", "update", "setdefault", "reverse", "sort", "add",
+                    "discard"}
+        quiet = reached(functions())
+        self.assertIn("holds", {node.name for node in quiet})
+        for function in quiet:
+            with self.subTest(function.name):
+                for node in ast.walk(function):
+                    self.assertNotIsInstance(getattr(node, "ctx", None), ast.Del)
+                    if isinstance(node, (ast.Attribute, ast.Subscript)):
+                        self.assertNotIsInstance(node.ctx, ast.Store)
+                    if isinstance(node, ast.Call) and isinstance(node.func, ast.Attribute):
+                        self.assertNotIn(node.func.attr, changing)
+                    # An error that is made there sets attributes.
+                    self.assertNotIsInstance(node, ast.Raise)
+
+    def test_l7_behind_a_star_stand_plain_values(self):
+        for path in FILES:
+            for node in nodes(path, ast.Call):
+                for passed in node.args:
+                    if isinstance(passed, ast.Starred):
+                        self.assertIsInstance(passed.value, (ast.Name, ast.Attribute, ast.Constant, ast.List, ast.Tuple))
+
+    def test_l16_no_two_files_import_from_each_other(self):
+        imported = {path.stem: {node.module.split(".")[-1] for node in nodes(path, ast.ImportFrom)} for path in FILES}
+        done = set()
+        while len(done) < len(imported):
+            free = {name for name, names in imported.items() if name not in done and names <= done}
+            self.assertNotEqual(free, set())
+            done |= free
+
+    def test_l23_generators_are_iterated_on_the_spot(self):
+        generators = {name for name, several in functions().items() for node in several
+                      if any(isinstance(part, (ast.Yield, ast.YieldFrom)) for part in ast.walk(node))}
+        self.assertIn("images", generators)
+        for path in FILES:
+            calls = [node for node in nodes(path, ast.Call) if isinstance(node.func, ast.Name) and node.func.id in generators]
+            spots = [node.iter for node in nodes(path, ast.For)] + [node.value for node in nodes(path, ast.YieldFrom)]
+            self.assertEqual(len(calls), len([spot for spot in spots if ast.dump(spot) in map(ast.dump, calls)]))
 
 
 if __name__ == "__main__":

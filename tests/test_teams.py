@@ -1,17 +1,11 @@
 import unittest
 
-from helpers import Case, words
+from helpers import A2, A3, B2, FALL, R2, STAY, Case, words
 
 from othersknow.errors import AlphabetsDiffer, InvalidIndex, InvalidState, InvalidWord, NoMachines, TooMany
 from othersknow.machines import Machine
 from othersknow.teams import Team
 
-A2 = Machine.counter("ab", 2, letter="a")
-B2 = Machine.counter("ab", 2, letter="b")
-R2 = Machine.ring("ab", 2)
-A3 = Machine.counter("ab", 3, letter="a")
-STAY = Machine("ab", [[0, 0]])
-FALL = Machine("ab", [[1, 2], [1, 3], [3, 2], [3, 3], [0, 0]])
 X = Machine("xyz", [[1, 0, 2], [2, 1, 0], [2, 2, 1]])
 
 TEAMS = [Team([A2]), Team([A2, B2]), Team([B2, A2]), Team([R2, A3]), Team([A2, B2, R2]), Team([STAY]),

@@ -1,6 +1,6 @@
 import unittest
 
-from othersknow.values import copied, is_count, is_index, is_list, is_number
+from othersknow.values import climbs, copied, is_count, is_index, is_list, is_number, is_pair
 
 OTHERS = [True, False, None, "1", "", (), (1,), [], [1]]
 
@@ -23,6 +23,20 @@ class Numbers(unittest.TestCase):
     def test_counts_reach_to_ten_to_the_thirtieth(self):
         self.assertTrue(is_count(0) and is_count(10 ** 30))
         self.assertFalse(is_count(-1) or is_count(10 ** 30 + 1))
+
+
+class Pairs(unittest.TestCase):
+    def test_a_pair_is_a_tuple_of_two_numbers(self):
+        values = [(one, other) for one in range(-1, 4) for other in range(-1, 4)]
+        self.assertEqual([value for value in values if is_pair(value, 2)], [(0, 0), (0, 1), (1, 0), (1, 1)])
+        for value in (*OTHERS, [0, 1], (0,), (0, 1, 0), (True, 0), (0, False), (0, None), "01", ((0, 1),), ("0", "1")):
+            self.assertIs(is_pair(value, 2), False)
+
+    def test_what_climbs(self):
+        for items in ([], [3], [0, 1], (0, 1, 2), "ace", [-5, 0, 7]):
+            self.assertIs(climbs(items), True)
+        for items in ([1, 0], [0, 0], (0, 1, 1), (0, 2, 1), "aa", "acb"):
+            self.assertIs(climbs(items), False)
 
 
 class Lists(unittest.TestCase):
