@@ -130,12 +130,11 @@ def coarser(moves, pairs, blocks, fixed):
         return
     heads = first_states(blocks)
     after = fixed + 1
-    if heads[fixed] == fixed:
-        for block in range(blocks[fixed]):
-            # If the image with the most blocks fails, all others fail, too.
-            fresh = united(moves, heads, [(blocks.index(block), fixed)])
-            if fresh[:fixed] == blocks[:fixed] and separates(fresh, pairs):
-                yield from coarser(moves, pairs, fresh, after)
+    for block in range(blocks[fixed]):
+        # If the image with the most blocks fails, all others fail, too.
+        fresh = united(moves, heads, [(blocks.index(block), fixed)])
+        if fresh[:fixed] == blocks[:fixed] and separates(fresh, pairs):
+            yield from coarser(moves, pairs, fresh, after)
     yield from coarser(moves, pairs, blocks, after)
 
 

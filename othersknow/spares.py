@@ -28,26 +28,20 @@ def in_one_block(blocks, pairs):
 
 
 def cheapest(losses, costs, left, many, first):
-    """The first ascending tuple of so many indexes with the least costs, or None.
+    """The first ascending tuple of so many indexes with the least costs.
 
-    No index is below the first one, and no item of left is less than the losses of these indexes in its place.
+    No index is below the first one, and no item of left is less than the losses of these indexes in its place. The last
+    index has no losses, so there is such a tuple.
     """
     if many == 0:
         return ()
-    best = None
+    found = []
     for index in range(first, len(costs)):
         rest = [have - lost for have, lost in zip(left, losses[index])]
         if all([have >= 0 for have in rest]):
-            tail = cheapest(losses, costs, rest, many - 1, index)
-            # Of equal costs the one that came first stays.
-            if tail is not None and (best is None or cost_of(costs, (index, *tail)) < cost_of(costs, best)):
-                best = (index, *tail)
-    return best
-
-
-def cost_of(costs, indexes):
-    """The sum of the costs of some indexes."""
-    return sum([costs[index] for index in indexes])
+            found.append((index, *cheapest(losses, costs, rest, many - 1, index)))
+    # Of equal costs the first one is taken.
+    return min(found, key=lambda row: sum([costs[at] for at in row]))
 
 
 def least_spares(team, *, silent=0, wrong=0):

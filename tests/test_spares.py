@@ -155,6 +155,30 @@ class LeastSpares(Case):
             first = [found for found in right if blocks_in_all(found) == least][0]
             self.assertEqual(least_spares(team, silent=silent), first)
 
+    def test_the_fewest_blocks_go_before_the_ascending_order(self):
+        team = Team([Machine("ab", [[1, 0], [0, 0], [2, 0]]), Machine("ab", [[1, 2], [0, 2], [2, 2]])])
+        self.assertEqual(useful(team), [[0, 0, 1, 2], [0, 1, 1, 0], [0, 1, 2, 3]])
+        self.assertTrue(all(are_spares(team, [blocks], silent=1) for blocks in useful(team)))
+        self.assertEqual(least_spares(team, silent=1), [[0, 1, 1, 0]])
+        team = Team([Machine("ab", [[1, 2], [0, 2], [0, 3], [2, 4], [4, 2]]), Machine("ab", [[1, 0], [0, 0], [0, 1]])])
+        first = [[0, 0, 1, 2, 3, 2, 4, 5, 6], [0, 1, 2, 3, 4, 5, 6, 1, 0]]
+        least = [[0, 0, 1, 2, 3, 4, 5, 2, 4], [0, 1, 2, 3, 4, 3, 5, 1, 0]]
+        self.assertTrue(first < least and are_spares(team, first, silent=2) and are_spares(team, least, silent=2))
+        self.assertEqual(least_spares(team, silent=2), least)
+        self.assertEqual(least_of(team, useful(team), 2, 0), least)
+
+    def test_the_first_of_several_with_as_many_blocks(self):
+        team = Team([Machine("ab", [[2, 0], [2, 1], [0, 2]]), Machine("ab", [[2, 2], [1, 0], [0, 1]])])
+        one, other = [[0, 0, 1, 1, 2, 2]], [[0, 1, 2, 0, 2, 1]]
+        self.assertTrue(are_spares(team, one, silent=1) and are_spares(team, other, silent=1))
+        self.assertEqual(least_spares(team, silent=1), one)
+        team = Team([Machine("ab", [[0, 1], [0, 0]]), Machine("ab", [[1, 1], [1, 0], [1, 1]])])
+        one, other = [[0, 1, 0, 1], [0, 1, 2, 3]], [[0, 1, 0, 2], [0, 1, 2, 1]]
+        self.assertTrue(are_spares(team, one, silent=2) and are_spares(team, other, silent=2))
+        self.assertEqual((blocks_in_all(one), blocks_in_all(other)), (6, 6))
+        self.assertEqual(least_spares(team, silent=2), one)
+        self.assertEqual(least_of(team, useful_images(team), 2, 0), one)
+
     def test_written_out(self):
         self.assertEqual(least_spares(COUNTS), [])
         self.assertEqual(least_spares(COUNTS, silent=1), [[0, 1, 1, 0]])
