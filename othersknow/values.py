@@ -35,10 +35,12 @@ def climbs(items):
 
 
 def copied(value):
-    """The same value, with new lists at every depth."""
+    """The same value, with new lists and dicts at every depth."""
     if isinstance(value, list):
         return [copied(item) for item in value]
     if isinstance(value, tuple):
         # A tuple itself never changes, but lists within it do.
         return tuple([copied(item) for item in value])
+    if isinstance(value, dict):
+        return {key: copied(item) for key, item in value.items()}
     return value

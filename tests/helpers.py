@@ -1,7 +1,7 @@
 """What several tests share."""
 
 import unittest
-from itertools import product
+from itertools import combinations, product
 
 from othersknow.errors import TooMany
 from othersknow.machines import Machine
@@ -20,6 +20,28 @@ SMALL_TEAMS = [Team([A2]), COUNTS, Team([R2, A3]), Team([A2, B2, R2]), Team([STA
                Team([FALL]), Team([FALL, FALL, FALL]), Team([A2, A2]), Team([A3, A3, A3]), Team([A2, A2, B2]),
                Team([A2, B2, R2, R2]), Team([Machine("a", [[1], [1]]), Machine("a", [[1], [0]])]),
                Team([A2, A2, A2, A2, A2])]
+
+MOST = 10 ** 30
+# No numbers from 0 to 10 ** 30.
+WRONG_COUNTS = [-1, MOST + 1, -MOST, 10 ** 31 - 1, True, False, None, "0", "", (0,), [0], (), []]
+
+# A machine falls through its states, two rings never lose a state, and a ring of many states has one letter that leads
+# elsewhere, so that "k steps behind" goes on changing for long.
+LINE = Machine("a", [[1], [2], [3], [4], [4]])
+RINGS = Machine("ab", [[1, 3], [2, 2], [1, 1], [4, 4], [5, 5], [3, 3]])
+
+
+def bent_ring(size):
+    """A ring in which the second letter of the last state leads to the state 1."""
+    return Machine("ab", [[state + 1, state + 1] for state in range(size - 1)] + [[0, 1]])
+
+
+# Their states are of use if letters are only counted, or heal.
+COUNTED_TEAMS = [*SMALL_TEAMS, Team([LINE]), Team([LINE, LINE]), Team([RINGS]), Team([bent_ring(4)]), Team([bent_ring(7)]),
+                 Team([Machine.ring("ab", 3), A2]), Team([Machine.ring("a", 4), Machine.ring("a", 6)]),
+                 Team([bent_ring(5), Machine("ab", [[0, 1], [1, 0]])]), Team([Machine("abc", [[1, 2, 0], [2, 0, 1], [0, 1, 2]])]),
+                 Team([Machine("a", [[1], [1]]), Machine("a", [[1], [0]]), LINE]),
+                 Team([Machine("ab", [[1, 2], [1, 1], [2, 2]]), A2]), Team([FALL, A2])]
 
 # Nested as deep as a value may be.
 DEEP_LIST = []
@@ -62,6 +84,41 @@ def small_machines():
              Machine("ab", [[at, at] for at in range(5)]), Machine("a", [[1], [2], [3], [4], [4]]),
              Machine("abc", [[1, 0, 3], [2, 1, 4], [3, 2, 0], [4, 3, 1], [0, 4, 2]])]
     return made
+
+
+def groups(team):
+    """All groups of a team."""
+    return [list(group) for many in range(len(team) + 1) for group in combinations(range(len(team)), many)]
+
+
+def letter_words(team, many):
+    """All words with so many letters."""
+    return ["".join(letters) for letters in product(team.alphabet, repeat=many)]
+
+
+def steps_by_words(team, many):
+    """For each joint state the set of those so many steps behind it, by the words of the document."""
+    joint = team.joint()
+    return [{joint.behind(word, state=start) for word in letter_words(team, many)} for start in range(joint.states)]
+
+
+def steps_in_turn(team, many):
+    """The same for 0 letters up to so many, each made from the one before."""
+    moves = team.joint().moves()
+    found = [[{start} for start in range(len(moves))]]
+    for turn in range(many):
+        found.append([{goal for state in behind for goal in moves[state]} for behind in found[-1]])
+    return found
+
+
+def cycle(team):
+    """The least numbers b and p of letters such that as many steps lead as far for b and b + p, and all relations."""
+    found = steps_in_turn(team, 0)
+    while found[-1] not in found[:-1]:
+        moves = team.joint().moves()
+        found.append([{goal for state in behind for goal in moves[state]} for behind in found[-1]])
+    begin = found.index(found[-1])
+    return begin, len(found) - 1 - begin, found
 
 
 def same_blocks(blocks):

@@ -36,7 +36,7 @@ REPORTS = """
 [(None, 2), [3, 5], [1, 2, 3, 5]]
 """
 
-# In the document these three read the team from a text.
+# In the document those that follow read the team from a text.
 COUNTS = """
 >>> from othersknow.machines import Machine
 >>> from othersknow.teams import Team
@@ -62,6 +62,39 @@ VERDICTS = COUNTS + """
 >>> made = verdict(team, silent=1)
 >>> [made.told(), made.holds(), isinstance(made, Unsafe)]
 ['1 silent, 0 wrong', True, True]
+"""
+
+TICKS = COUNTS + """
+>>> from othersknow.ticks import Ticks
+>>> table = Ticks(team)
+>>> [table.begin, table.period, table.distance_after(0), table.distance_after(2), table.safe_counts(silent=1)]
+[1, 2, None, 2, [True, True, True]]
+"""
+
+LATE = COUNTS + """
+>>> from othersknow.late import Late
+>>> made = Late(team, [0])
+>>> [made.clear(0), made.late_pair(1)]
+[True, (0, 1, 2, 0)]
+"""
+
+HEALING = """
+>>> from othersknow.machines import Machine
+>>> from othersknow.teams import Team
+>>> from othersknow.healing import healing, open_pairs
+>>> team = Team([Machine("a", [[1], [1]]), Machine("a", [[1], [0]])])
+>>> [open_pairs(team, [0]), healing(team, [0]).letters, healing(team, [1]).told()]
+[[(0, 2)], 1, 'never heals']
+"""
+
+LISTENERS = COUNTS + """
+>>> from othersknow.listeners import Listener
+>>> listener = Listener(team)
+>>> listener.tick(2)
+>>> first = listener.known()
+>>> listener.hear((1, None))
+>>> [first, listener.known(), listener.state(), listener.since]
+[[0, 3], [3], (1, 1), 0]
 """
 
 
@@ -93,6 +126,18 @@ class Examples(unittest.TestCase):
 
     def test_verdicts(self):
         self.holds(VERDICTS)
+
+    def test_ticks(self):
+        self.holds(TICKS)
+
+    def test_late_reports(self):
+        self.holds(LATE)
+
+    def test_healing(self):
+        self.holds(HEALING)
+
+    def test_listeners(self):
+        self.holds(LISTENERS)
 
 
 if __name__ == "__main__":

@@ -4,7 +4,7 @@ import inspect
 import unittest
 from collections import Counter
 
-from othersknow import machines, partitions, reports, spares, teams, verdicts
+from othersknow import healing, late, listeners, machines, partitions, reports, spares, teams, ticks, verdicts
 
 # For each name the parameters, as they are written in the document.
 FUNCTIONS = {
@@ -31,8 +31,13 @@ FUNCTIONS = {
     spares.are_spares: "(team, value, *, silent=0, wrong=0)",
     spares.with_spares: "(team, blocks)",
     verdicts.verdict: "(team, *, silent=0, wrong=0)",
+    ticks.relation_holds: "(team, count, pairs)",
+    late.late_pair_holds: "(team, group, count, value)",
+    healing.open_pairs: "(team, group)",
+    healing.healed_by: "(team, group, word)",
+    healing.healing: "(team, group)",
 }
-FILES = {machines: 2, reports: 5, partitions: 11, spares: 4, verdicts: 1}
+FILES = {machines: 2, reports: 5, partitions: 11, spares: 4, verdicts: 1, ticks: 1, late: 1, healing: 3}
 CLASSES = {
     machines.Machine: {
         "__init__": "(self, alphabet, moves)",
@@ -82,10 +87,66 @@ CLASSES = {
         "holds": "(self)",
         "__repr__": "(self)",
     },
+    ticks.Ticks: {
+        "__init__": "(self, team)",
+        "behind": "(self, number, count)",
+        "spread": "(self, numbers, count)",
+        "distance_after": "(self, count)",
+        "is_safe": "(self, count, *, silent=0, wrong=0)",
+        "safe_counts": "(self, *, silent=0, wrong=0)",
+        "__eq__": "(self, other)",
+        "__repr__": "(self)",
+    },
+    late.Late: {
+        "__init__": "(self, team, group)",
+        "group": "(self)",
+        "clear": "(self, count)",
+        "late_pair": "(self, count)",
+        "clear_counts": "(self)",
+        "__repr__": "(self)",
+    },
+    healing.Healing: {
+        "__init__": "(self, team, group)",
+        "group": "(self)",
+        "holds": "(self)",
+        "told": "(self)",
+        "__bool__": "(self)",
+        "__repr__": "(self)",
+    },
+    healing.Heals: {
+        "__init__": "(self, team, group, letters, numbers)",
+        "numbers": "(self)",
+        "holds": "(self)",
+        "told": "(self)",
+        "__bool__": "(self)",
+        "__repr__": "(self)",
+    },
+    healing.Never: {
+        "__init__": "(self, team, group, pair, word)",
+        "holds": "(self)",
+        "told": "(self)",
+        "__bool__": "(self)",
+        "__repr__": "(self)",
+    },
+    listeners.Listener: {
+        "__init__": "(self, team, *, wrong=0, late=False)",
+        "known": "(self)",
+        "state": "(self)",
+        "tick": "(self, count=1)",
+        "hear": "(self, report)",
+        "hear_all": "(self, *items)",
+        "back": "(self)",
+        "twin": "(self)",
+        "__len__": "(self)",
+    },
 }
-PLACES = {machines: ["Machine"], teams: ["Team"], verdicts: ["Verdict", "Safe", "Unsafe"]}
+PLACES = {machines: ["Machine"], teams: ["Team"], verdicts: ["Verdict", "Safe", "Unsafe"],
+          ticks: ["Ticks"], late: ["Late"], healing: ["Healing", "Heals", "Never"], listeners: ["Listener"]}
 PROPERTIES = {machines.Machine: ["alphabet", "states"], teams.Team: ["alphabet", "distance"],
-              verdicts.Verdict: ["team", "silent", "wrong"], verdicts.Unsafe: ["one", "other", "report"]}
+              verdicts.Verdict: ["team", "silent", "wrong"], verdicts.Unsafe: ["one", "other", "report"],
+              ticks.Ticks: ["team", "begin", "period"], late.Late: ["team"], healing.Healing: ["team", "letters"],
+              healing.Heals: ["letters"], healing.Never: ["pair", "road"],
+              listeners.Listener: ["team", "wrong", "sure", "heard", "since", "busy"]}
 VALUES = {machines.Machine: {"STATES": 24}, teams.Team: {"MOST": 6, "JOINT": 24}}
 
 

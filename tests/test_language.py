@@ -18,6 +18,11 @@ BARRED_WORDS = set("""type typing typing_extensions enum Enum IntEnum StrEnum Fl
 BARRED_NAMES = set("""register mro elements open input law version_info with_traceback add_note attrgetter breakpoint
     compile copyright credits delattr dir eval exec exit gc getattr globals hasattr help id importlib license locals
     methodcaller os quit setattr type vars sys""".split())
+METHODS = set("""append clear copy count endswith extend find get index insert isalnum isalpha isdigit islower isspace
+    isupper items join keys ljust lower lstrip partition pop remove replace reverse rfind rjust rpartition rsplit rstrip
+    setdefault split splitlines startswith strip update upper values zfill bit_length""".split())
+AT_ONCE = ("zip", "enumerate", "reversed", "range", "items", "keys", "values")
+TAKERS = ("list", "tuple", "dict", "sorted", "sum", "any", "all", "enumerate", "zip", "min", "max")
 WHOLE = ("any", "all", "min", "max", "sum", "sorted")
 
 
@@ -72,6 +77,11 @@ def reached(found):
                     name = call.func.id if isinstance(call.func, ast.Name) else call.func.attr
                     todo.extend(found.get(name, []))
     return seen
+
+
+def called(node):
+    """The name of what a call calls."""
+    return node.func.id if isinstance(node.func, ast.Name) else node.func.attr
 
 
 class Language(unittest.TestCase):
@@ -165,6 +175,37 @@ class Language(unittest.TestCase):
                         self.assertNotIn(node.func.attr, changing)
                     # An error that is made there sets attributes.
                     self.assertNotIsInstance(node, ast.Raise)
+
+    def test_l20_is_stands_beside_plain_values(self):
+        for path in FILES:
+            for node in nodes(path, ast.Compare):
+                for sign, right in zip(node.ops, node.comparators):
+                    if isinstance(sign, (ast.Is, ast.IsNot)):
+                        self.assertIn(right.value, (None, True, False))
+
+    def test_l22_keywords_of_builtins(self):
+        for path in FILES:
+            for node in nodes(path, ast.Call):
+                if isinstance(node.func, ast.Name) and node.func.id in BUILTINS:
+                    self.assertLessEqual({word.arg for word in node.keywords}, {"key", "reverse", "default", "start", "strict"})
+
+    def test_l23_what_is_iterated_at_once(self):
+        for path in FILES:
+            calls = [node for node in nodes(path, ast.Call) if called(node) in AT_ONCE]
+            spots = [node.iter for node in nodes(path, ast.For, ast.comprehension)]
+            for node in nodes(path, ast.Call):
+                if called(node) in TAKERS:
+                    spots.extend(node.args[:1])
+            told = [ast.dump(spot) for spot in spots]
+            for call in calls:
+                self.assertIn(ast.dump(call), told, ast.unparse(call))
+
+    def test_l25_methods_are_those_listed_or_own_ones(self):
+        own = set(functions())
+        for path in FILES:
+            for node in nodes(path, ast.Call):
+                if isinstance(node.func, ast.Attribute):
+                    self.assertIn(node.func.attr, METHODS | own)
 
     def test_l7_behind_a_star_stand_plain_values(self):
         for path in FILES:
