@@ -114,7 +114,6 @@ class Ticks:
 
     def safe_counts(self, *, silent=0, wrong=0):
         """The list of the answers of is_safe for each number of letters before the relations come again."""
-        require_counts(silent, wrong)
         return [self.is_safe(count, silent=silent, wrong=wrong) for count in range(len(self.relations))]
 
     def relation_after(self, count):

@@ -4,9 +4,10 @@ import copy
 import inspect
 import unittest
 
-from helpers import A2, B2, COUNTS, FALL, LINE, SMALL_TEAMS, Case
+from helpers import A2, B2, COUNTS, DEEP_LIST, DEEP_TUPLE, FALL, LINE, SMALL_TEAMS, Case
 
-from othersknow import errors, healing, late, listeners, machines, partitions, reports, spares, teams, ticks, verdicts
+from othersknow import (desk, errors, healing, late, listeners, machines, pages, partitions, reports, roster, spares, teams,
+                        texts, ticks, verdicts)
 
 Machine, Team = machines.Machine, teams.Team
 LINED = Team([LINE, LINE])
@@ -21,6 +22,15 @@ ODD_HEALS = healing.Heals(LINED, [1], 3, {(0, 1): [1, [2]], "a": ([3], 4), (True
 ODD_NEVER = healing.Never(COUNTS, [0], ([0], 1), [["a"]])
 ODD_SAFE = verdicts.Safe(COUNTS, 1, 0, [[0, 0], ([1], 2)])
 ODD_UNSAFE = verdicts.Unsafe(COUNTS, 1, 0, ["a", ["b"]], [[]], ([1], None))
+TEXT = "ab 1,0 0,1 / ab 0,1 1,0"
+ROSTER = roster.Roster()
+ROSTER.apply(("team", "two", TEXT), ("team", "one", "a 1 0"))
+ROSTER.ticks("two")
+ROSTER.apply(("drop", "one"))
+ROSTER.undo()
+DESK = desk.Desk(roster=ROSTER.twin())
+DESK.say("names")
+DESK.say([["names"], 1])
 SAFE = verdicts.verdict(COUNTS)
 UNSAFE = verdicts.verdict(COUNTS, silent=1)
 
@@ -107,7 +117,36 @@ CALLS = [
     (LISTENER.known, (), {}),
     (LISTENER.state, (), {}),
     (LISTENER.twin, (), {}),
+    (texts.machine_text, (FALL,), {}),
+    (texts.team_text, (COUNTS,), {}),
+    (texts.read_machine, ("ab 1,0 0,1",), {}),
+    (texts.read_team, (TEXT,), {}),
+    (texts.report_text, ((1, None),), {}),
+    (texts.read_report, ("1,-",), {}),
+    (roster.Roster, (), {"limit": 12}),
+    (ROSTER.history, (), {}),
+    (ROSTER.names, (), {}),
+    (ROSTER.team_named, ("two",), {}),
+    (ROSTER.ticks, ("two",), {}),
+    (ROSTER.kept, (), {}),
+    (ROSTER.twin, (), {}),
+    (pages.write_roster, (ROSTER,), {}),
+    (pages.read_roster, ("two " + TEXT + "\none a 1 0\n",), {}),
+    (desk.Desk, (), {"roster": ROSTER.twin()}),
+    (DESK.roster, (), {}),
+    (DESK.log, (), {}),
 ]
+# Calls that change an object, each of a new one.
+CHANGES = [
+    (lambda: listeners.Listener(COUNTS), "tick", (3,)),
+    (lambda: listeners.Listener(COUNTS, late=True), "hear", ((0, None),)),
+    (ROSTER.twin, "set_limit", (2,)),
+    (lambda: desk.Desk(roster=ROSTER.twin()), "say", ("drop one",)),
+    (lambda: desk.Desk(roster=ROSTER.twin()), "__call__", ("after one 3",)),
+]
+# None of these is a name, a text or a command.
+NESTED = [DEEP_LIST, DEEP_TUPLE, [], (), [[]], ((),), [["drop", "one"]], (("drop", "one"),), [("drop", "one")], ["a", ["b"]],
+          ("a", ("b", ["c", None])), [True, [False]]]
 # What is told by properties that may hold lists.
 PROPERTIES = [(ODD_NEVER, "pair"), (ODD_NEVER, "road"), (ODD_UNSAFE, "one"), (ODD_UNSAFE, "other"), (ODD_UNSAFE, "report"),
               (NEVER, "pair"), (UNSAFE, "report")]
@@ -136,9 +175,13 @@ def object_told(value):
         if hasattr(value, name):
             found.append((name, plain(getattr(value, name))))
     for name in ("holds", "told", "listed_states", "group", "numbers", "clear_counts", "known", "state", "names", "history",
-                 "kept", "log"):
+                 "kept", "log", "roster"):
         if hasattr(value, name):
             found.append((name, plain(getattr(value, name)())))
+    if isinstance(value, roster.Roster):
+        found.append([plain(value.team_named(name)) for name in value.names()])
+    if hasattr(value, "__len__"):
+        found.append(len(value))
     return found
 
 
@@ -167,6 +210,40 @@ class Calls(Case):
         for call, args, more in CALLS:
             with self.subTest(call=call):
                 self.assertEqual(plain(call(*args, **more)), plain(call(**names_of(call, args), **more)))
+
+    def test_changes_by_position_and_by_name(self):
+        for make, name, args in CHANGES:
+            one, other = make(), make()
+            with self.subTest(name):
+                answer = getattr(one, name)(*args)
+                self.assertEqual(answer, getattr(other, name)(**names_of(getattr(other, name), args)))
+                self.assertEqual(plain(one), plain(other))
+                self.assertNotEqual(plain(one), plain(make()))
+
+    def test_nested_lists_and_tuples(self):
+        for value in NESTED:
+            made = ROSTER.twin()
+            before = plain(made)
+            with self.subTest(value):
+                for call in (texts.read_machine, texts.read_team, texts.read_report):
+                    self.fails(errors.InvalidText, call, value)
+                self.assertEqual(self.fails(errors.ParseError, pages.read_roster, value).line, 0)
+                self.assertEqual(self.fails(errors.InvalidLimit, made.set_limit, value).given, value)
+                self.assertEqual(self.fails(errors.UnknownName, made.team_named, value).name, value)
+                self.assertEqual(self.fails(errors.UnknownName, made.ticks, value).name, value)
+                self.assertIs(value in made, False)
+                self.assertEqual(self.fails(errors.InvalidName, made.apply, ("team", value, TEXT)).name, value)
+                self.fails(errors.InvalidText, made.apply, ("team", "new", value))
+                self.fails(errors.InvalidCommand, made.apply, value)
+                self.assertEqual(self.fails(errors.InvalidCommand, made.apply, (value, "one")).word, value)
+                self.assertEqual(desk.Desk(roster=made).say(value), "invalid")
+                self.assertEqual(plain(made), before)
+
+    def test_commands_stay_as_they_are(self):
+        inner = ["x"]
+        command = ("rename", "one", (inner, 1))
+        self.assertEqual(self.fails(errors.InvalidName, ROSTER.twin().apply, command).name, (["x"], 1))
+        self.assertEqual(command, ("rename", "one", (["x"], 1)))
 
     def test_equal_calls_return_equal_results(self):
         for call, args, more in CALLS:
@@ -232,7 +309,10 @@ class Calls(Case):
                                  (late.late_pair_holds, (COUNTS, [0], True, None), {}), (healing.healing, (COUNTS, [2]), {}),
                                  (healing.healed_by, (COUNTS, [0], "c"), {}), (ticks.relation_holds, (COUNTS, 401, []), {}),
                                  (LISTENER.tick, (-1,), {}), (LISTENER.hear, ((),), {}),
-                                 (listeners.Listener, (COUNTS,), {"wrong": -1})):
+                                 (listeners.Listener, (COUNTS,), {"wrong": -1}), (texts.read_team, ("",), {}),
+                                 (texts.read_machine, ("",), {}), (texts.read_report, ("",), {}),
+                                 (pages.read_roster, ("a",), {}), (roster.Roster, (), {"limit": 0}),
+                                 (ROSTER.set_limit, (1,), {})):
             told = []
             for shape in ((args, more), ((), {**names_of(call, args), **more})):
                 with self.assertRaises(errors.TeamError) as caught:

@@ -1,4 +1,4 @@
-"""The examples of the document."""
+"""The examples of the document, as they stand there."""
 
 import doctest
 import unittest
@@ -36,65 +36,81 @@ REPORTS = """
 [(None, 2), [3, 5], [1, 2, 3, 5]]
 """
 
-# In the document those that follow read the team from a text.
-COUNTS = """
->>> from othersknow.machines import Machine
->>> from othersknow.teams import Team
->>> team = Team([Machine("ab", [[1, 0], [0, 1]]), Machine("ab", [[0, 1], [1, 0]])])
-"""
-
-SPARES = COUNTS + """
+SPARES = """
 >>> from othersknow.partitions import quotient
 >>> from othersknow.spares import least_spares, useful
->>> [useful(team), least_spares(team, silent=1), quotient(team.joint(), [0, 1, 1, 0]).moves()]
-[[[0, 1, 1, 0], [0, 1, 2, 3]], [[0, 1, 1, 0]], [[1, 1], [0, 0]]]
+>>> from othersknow.texts import machine_text, read_team
+>>> team = read_team("ab 1,0 0,1 / ab 0,1 1,0")
+>>> [useful(team), least_spares(team, silent=1), machine_text(quotient(team.joint(), [0, 1, 1, 0]))]
+[[[0, 1, 1, 0], [0, 1, 2, 3]], [[0, 1, 1, 0]], 'ab 1,1 0,0']
 """
 
-IMAGES = COUNTS + """
+IMAGES = """
 >>> from othersknow.partitions import coarsest, image_count
->>> joint = team.joint()
+>>> from othersknow.texts import read_team
+>>> joint = read_team("ab 1,0 0,1 / ab 0,1 1,0").joint()
 >>> [image_count(joint), coarsest(joint, apart=[(0, 1)])]
 [5, [[0, 1, 0, 1], [0, 1, 1, 0]]]
 """
 
-VERDICTS = COUNTS + """
+VERDICTS = """
+>>> from othersknow.texts import read_team
 >>> from othersknow.verdicts import Unsafe, verdict
->>> made = verdict(team, silent=1)
+>>> made = verdict(read_team("ab 1,0 0,1 / ab 0,1 1,0"), silent=1)
 >>> [made.told(), made.holds(), isinstance(made, Unsafe)]
 ['1 silent, 0 wrong', True, True]
 """
 
-TICKS = COUNTS + """
+TICKS = """
+>>> from othersknow.texts import read_team
 >>> from othersknow.ticks import Ticks
->>> table = Ticks(team)
+>>> table = Ticks(read_team("ab 1,0 0,1 / ab 0,1 1,0"))
 >>> [table.begin, table.period, table.distance_after(0), table.distance_after(2), table.safe_counts(silent=1)]
 [1, 2, None, 2, [True, True, True]]
 """
 
-LATE = COUNTS + """
+LATE = """
 >>> from othersknow.late import Late
->>> made = Late(team, [0])
+>>> from othersknow.texts import read_team
+>>> made = Late(read_team("ab 1,0 0,1 / ab 0,1 1,0"), [0])
 >>> [made.clear(0), made.late_pair(1)]
 [True, (0, 1, 2, 0)]
 """
 
 HEALING = """
->>> from othersknow.machines import Machine
->>> from othersknow.teams import Team
 >>> from othersknow.healing import healing, open_pairs
->>> team = Team([Machine("a", [[1], [1]]), Machine("a", [[1], [0]])])
+>>> from othersknow.texts import read_team
+>>> team = read_team("a 1 1 / a 1 0")
 >>> [open_pairs(team, [0]), healing(team, [0]).letters, healing(team, [1]).told()]
 [[(0, 2)], 1, 'never heals']
 """
 
-LISTENERS = COUNTS + """
+LISTENERS = """
 >>> from othersknow.listeners import Listener
->>> listener = Listener(team)
+>>> from othersknow.texts import read_team
+>>> listener = Listener(read_team("ab 1,0 0,1 / ab 0,1 1,0"))
 >>> listener.tick(2)
 >>> first = listener.known()
 >>> listener.hear((1, None))
 >>> [first, listener.known(), listener.state(), listener.since]
 [[0, 3], [3], (1, 1), 0]
+"""
+
+TEXTS = """
+>>> from othersknow.machines import Machine
+>>> from othersknow.teams import Team
+>>> from othersknow.texts import report_text, team_text
+>>> team = Team([Machine.counter("ab", 2, letter="a"), Machine.counter("ab", 2, letter="b")])
+>>> [team_text(team), report_text((1, None))]
+['ab 1,0 0,1 / ab 0,1 1,0', '1,-']
+"""
+
+DESKS = """
+>>> from othersknow.desk import Desk
+>>> desk = Desk()
+>>> lines = ["team b ab 1,0 0,1 / ab 0,1 1,0", "spare b 1 0", "show b", "distance b", "undo", "safe b 1 0"]
+>>> [desk.say(line) for line in lines]
+['ok', 'ok', 'ab 1,0 0,1 / ab 0,1 1,0 / ab 1,1 0,0', '2', 'ok', 'no']
 """
 
 
@@ -138,6 +154,12 @@ class Examples(unittest.TestCase):
 
     def test_listeners(self):
         self.holds(LISTENERS)
+
+    def test_texts(self):
+        self.holds(TEXTS)
+
+    def test_desks(self):
+        self.holds(DESKS)
 
 
 if __name__ == "__main__":

@@ -4,7 +4,8 @@ import inspect
 import unittest
 from collections import Counter
 
-from othersknow import healing, late, listeners, machines, partitions, reports, spares, teams, ticks, verdicts
+from othersknow import (desk, healing, late, listeners, machines, pages, partitions, reports, roster, spares, teams, texts,
+                        ticks, verdicts)
 
 # For each name the parameters, as they are written in the document.
 FUNCTIONS = {
@@ -36,8 +37,17 @@ FUNCTIONS = {
     healing.open_pairs: "(team, group)",
     healing.healed_by: "(team, group, word)",
     healing.healing: "(team, group)",
+    texts.machine_text: "(machine)",
+    texts.team_text: "(team)",
+    texts.read_machine: "(text)",
+    texts.read_team: "(text)",
+    texts.report_text: "(report)",
+    texts.read_report: "(text)",
+    pages.write_roster: "(roster)",
+    pages.read_roster: "(text)",
 }
-FILES = {machines: 2, reports: 5, partitions: 11, spares: 4, verdicts: 1, ticks: 1, late: 1, healing: 3}
+FILES = {machines: 2, reports: 5, partitions: 11, spares: 4, verdicts: 1, ticks: 1, late: 1, healing: 3, texts: 6,
+         pages: 2}
 CLASSES = {
     machines.Machine: {
         "__init__": "(self, alphabet, moves)",
@@ -139,15 +149,43 @@ CLASSES = {
         "twin": "(self)",
         "__len__": "(self)",
     },
+    roster.Roster: {
+        "__init__": "(self, *, limit=10)",
+        "set_limit": "(self, value)",
+        "apply": "(self, *commands)",
+        "undo": "(self)",
+        "redo": "(self)",
+        "forget": "(self)",
+        "history": "(self)",
+        "names": "(self)",
+        "team_named": "(self, name)",
+        "ticks": "(self, name)",
+        "kept": "(self)",
+        "twin": "(self)",
+        "__contains__": "(self, value)",
+        "__len__": "(self)",
+        "__eq__": "(self, other)",
+        "__repr__": "(self)",
+    },
+    desk.Desk: {
+        "__init__": "(self, *, roster=None)",
+        "say": "(self, line)",
+        "__call__": "(self, line)",
+        "roster": "(self)",
+        "log": "(self)",
+        "__len__": "(self)",
+    },
 }
 PLACES = {machines: ["Machine"], teams: ["Team"], verdicts: ["Verdict", "Safe", "Unsafe"],
-          ticks: ["Ticks"], late: ["Late"], healing: ["Healing", "Heals", "Never"], listeners: ["Listener"]}
+          ticks: ["Ticks"], late: ["Late"], healing: ["Healing", "Heals", "Never"], listeners: ["Listener"],
+          roster: ["Roster"], desk: ["Desk"]}
 PROPERTIES = {machines.Machine: ["alphabet", "states"], teams.Team: ["alphabet", "distance"],
               verdicts.Verdict: ["team", "silent", "wrong"], verdicts.Unsafe: ["one", "other", "report"],
               ticks.Ticks: ["team", "begin", "period"], late.Late: ["team"], healing.Healing: ["team", "letters"],
               healing.Heals: ["letters"], healing.Never: ["pair", "road"],
-              listeners.Listener: ["team", "wrong", "sure", "heard", "since", "busy"]}
-VALUES = {machines.Machine: {"STATES": 24}, teams.Team: {"MOST": 6, "JOINT": 24}}
+              listeners.Listener: ["team", "wrong", "sure", "heard", "since", "busy"],
+              roster.Roster: ["limit", "busy", "computed"]}
+VALUES = {machines.Machine: {"STATES": 24}, teams.Team: {"MOST": 6, "JOINT": 24}, roster.Roster: {"MOST": 12}}
 
 
 class Interface(unittest.TestCase):
@@ -183,6 +221,11 @@ class Interface(unittest.TestCase):
         for held, names in PROPERTIES.items():
             for name in names:
                 self.assertIsInstance(vars(held)[name], property)
+
+    def test_one_property_alone_can_be_assigned(self):
+        setters = [(held.__name__, name) for held, names in PROPERTIES.items() for name in names
+                   if vars(held)[name].fset is not None]
+        self.assertEqual(setters, [("Roster", "limit")])
 
     def test_class_values(self):
         for held, values in VALUES.items():

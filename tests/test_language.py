@@ -176,6 +176,16 @@ class Language(unittest.TestCase):
                     # An error that is made there sets attributes.
                     self.assertNotIsInstance(node, ast.Raise)
 
+    def test_l3_l15_tables_hold_functions_of_their_own_file(self):
+        for path in FILES:
+            own = {node.name for node in tree(path).body if isinstance(node, ast.FunctionDef)}
+            for node in tree(path).body:
+                self.assertIsInstance(node, (ast.Expr, ast.ImportFrom, ast.FunctionDef, ast.ClassDef, ast.Assign))
+                if isinstance(node, ast.Assign):
+                    self.assertEqual([part for part in ast.walk(node) if isinstance(part, (ast.Call, ast.comprehension))], [])
+                    named = {part.id for part in ast.walk(node.value) if isinstance(part, ast.Name)}
+                    self.assertLessEqual(named, own)
+
     def test_l20_is_stands_beside_plain_values(self):
         for path in FILES:
             for node in nodes(path, ast.Compare):

@@ -1,5 +1,6 @@
 import unittest
 from itertools import product
+from unittest import mock
 
 from helpers import (A2, A3, B2, COUNTED_TEAMS, COUNTS, DEEP_LIST, DEEP_TUPLE, LINE, MOST, R2, RINGS, STAY, WRONG_COUNTS, Case,
                      all_reports, bent_ring, letter_words, wrong_ones)
@@ -7,7 +8,7 @@ from helpers import (A2, A3, B2, COUNTED_TEAMS, COUNTS, DEEP_LIST, DEEP_TUPLE, L
 from othersknow.errors import InvalidCount, InvalidReport, NothingLeft, Refused
 from othersknow.listeners import Listener
 from othersknow.machines import Machine
-from othersknow.reports import bearable
+from othersknow.reports import bearable, fitting
 from othersknow.teams import Team
 from othersknow.ticks import Ticks
 
@@ -261,6 +262,17 @@ class Calls(Case):
         self.assertEqual(made.state(), ((8 + MOST) % 2, (8 + MOST) % 5))
         made = Listener(Team([STAY]), late=True)
         self.assertEqual((made.sure, made.since), (True, 0))
+
+    def test_busy_while_items_are_taken(self):
+        for items in (((0, None), 1), ((0, 0), (1, 1)), ((0, 0), -1)):
+            made = Listener(COUNTS)
+            seen = []
+            with mock.patch("othersknow.listeners.fitting", lambda *rest, **more: seen.append(made.busy) or fitting(*rest, **more)):
+                try:
+                    made.hear_all(*items)
+                except (Refused, InvalidCount):
+                    pass
+            self.assertEqual((seen[0], made.busy), (True, False))
 
     def test_a_call_without_items(self):
         made = Listener(COUNTS)

@@ -185,6 +185,9 @@ class Distances(Case):
         self.assertEqual(table.safe_counts(wrong=1), [True, False, False])
         self.assertEqual(table.safe_counts(), [True, True, True])
         self.assertIs(table.is_safe(7), True)
+        table = Ticks(Team([A2]))
+        self.assertEqual([table.is_safe(1), table.is_safe(1, silent=1), table.is_safe(1, wrong=1)], [True, False, False])
+        self.assertEqual([table.safe_counts(), table.safe_counts(silent=1)], [[True, True], [True, False]])
 
     def test_none_where_there_are_no_two(self):
         for team in (Team([R2]), Team([LINE]), Team([Machine.ring("ab", 24)] * 6), Team([STAY])):
